@@ -1,0 +1,90 @@
+"""Webs: tuples (TOP, PLACES, TIES), their prices, and what their ties hold."""
+
+from cutstairs.errors import NoPrice
+from cutstairs.fractions import fraction, is_between, is_fraction, is_row, on_line
+
+LETTERS = "abcdefghijklmnopqrstuvwxyz"
+
+
+def is_name(thing):
+    """Whether a thing of any kind is a text of one to eight small letters."""
+    return isinstance(thing, str) and 1 <= len(thing) <= 8 and all(sign in LETTERS for sign in thing)
+
+
+def is_rising(row):
+    """Whether each of the row is more than the one ahead."""
+    return all(ahead < behind for ahead, behind in zip(row, row[1:]))
+
+
+def is_top(thing):
+    """Whether a thing of any kind is a TOP."""
+    return is_between(thing, 1, 9)
+
+
+def is_place(top, thing):
+    """Whether a thing of any kind is a place under this TOP."""
+    if not is_row(thing, 5):
+        return False
+    name, a, b, c, d = thing
+    if not (is_name(name) and is_between(a, 0, 99) and is_between(b, 0, 99) and is_between(d, 0, 99)):
+        return False
+    # Else the tie to the drain would hold less than nothing at a price up to TOP.
+    return is_between(c, d * top, 999)
+
+
+def is_tie(names, thing):
+    """Whether a thing of any kind is a tie among places of these names."""
+    if not is_row(thing, 3):
+        return False
+    one, other, size = thing
+    if not (is_name(one) and is_name(other) and is_between(size, 1, 999)):
+        return False
+    return one in names and other in names and one != other
+
+
+def are_places(top, thing):
+    """Whether a thing of any kind is the PLACES of a web of this TOP."""
+    if not (isinstance(thing, tuple) and 1 <= len(thing) <= 8):
+        return False
+    return all(is_place(top, place) for place in thing) and is_rising([place[0] for place in thing])
+
+
+def are_ties(names, thing):
+    """Whether a thing of any kind is the TIES of a web with places of these names."""
+    if not (isinstance(thing, tuple) and len(thing) <= 16):
+        return False
+    # Rising by both ends alone, since no two ties may be alike in them.
+    return all(is_tie(names, tie) for tie in thing) and is_rising([tie[:2] for tie in thing])
+
+
+def is_web(thing):
+    """Whether a thing of any kind is a web."""
+    if not is_row(thing, 3):
+        return False
+    top, places, ties = thing
+    return is_top(top) and are_places(top, places) and are_ties(names_of(thing), ties)
+
+
+def names_of(web):
+    """The names of a web's places, as a tuple."""
+    return tuple(place[0] for place in web[1])
+
+
+def is_price(web, thing):
+    """Whether a thing of any kind is a price of the web."""
+    return is_fraction(thing) and 0 <= thing[0] <= web[0] * thing[1]
+
+
+def check_price(web, thing):
+    """Refuse what is no price of the web."""
+    if not is_price(web, thing):
+        raise NoPrice("no fraction from 0 to the web's top")
+
+
+def sizes_at(web, price):
+    """What all ties hold at a price: tuples of fractions (INTO, THROUGH, OUT)."""
+    check_price(web, price)
+    into = tuple(on_line(a, b, price) for name, a, b, c, d in web[1])
+    through = tuple(fraction(size, 1) for one, other, size in web[2])
+    out = tuple(on_line(c, -d, price) for name, a, b, c, d in web[1])
+    return (into, through, out)
