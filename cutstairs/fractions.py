@@ -68,6 +68,14 @@ def below(a, b):
     return a[0] * b[1] < b[0] * a[1]
 
 
+def total(parts):
+    """All of the fractions together, 0 where there are none."""
+    gathered = fraction(0, 1)
+    for part in parts:
+        gathered = plus(gathered, part)
+    return gathered
+
+
 def on_line(base, lean, at):
     """base + lean times at, of two whole numbers and a fraction."""
     return fraction(base * at[1] + lean * at[0], at[1])

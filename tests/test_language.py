@@ -13,6 +13,10 @@ INTERFACE = {
                "NoPart", "NoTop", "NoPlace", "NoTie", "NoUndo", "NoWeb", "NoRow"),
     "fractions": ("is_fraction", "fraction", "plus", "minus", "times", "over", "below"),
     "webs": ("is_web", "is_price", "names_of", "sizes_at"),
+    "webtexts": ("show_web", "read_web"),
+    "cuts": ("is_cut", "line_of", "worth_of", "all_cuts"),
+    "streams": ("is_stream", "stream_at", "stream_worth", "led_to", "led_from"),
+    "least": ("least_worth", "least_cut", "most_cut"),
 }
 
 BUILTINS = set("""len range enumerate zip min max sum abs sorted reversed int str bool list tuple dict set isinstance

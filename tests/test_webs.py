@@ -35,7 +35,8 @@ class TestNames(unittest.TestCase):
             self.check(name, False)
 
     def test_other_signs(self):
-        for sign in ("A", "Z", "0", "9", " ", "`", "{", "_", "-", ".", "\n", "\t", "\u00e4", "\u00df", "\uff41", "\x00"):
+        for sign in ("A", "Z", "0", "9", " ", "`", "{", "_", "-", ".", "\n", "\t", "\u00e4", "\u00df", "\uff41",
+                     "\x00"):
             self.check(sign, False)
             self.check("a" + sign, False)
             self.check(sign + "a", False)
