@@ -39,9 +39,14 @@ def worth_of(web, cut, price):
     return on_line(base, lean, price)
 
 
+def choices_of(things):
+    """All tuples of some of the things, perhaps none or all, in their order."""
+    choices = [()]
+    for thing in things:
+        choices = choices + [(*choice, thing) for choice in choices]
+    return choices
+
+
 def all_cuts(web):
     """All cuts of the web, rising as tuples are."""
-    cuts = [()]
-    for name in names_of(web):
-        cuts = cuts + [(*cut, name) for cut in cuts]
-    return sorted(cuts)
+    return sorted(choices_of(names_of(web)))

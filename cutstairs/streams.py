@@ -1,13 +1,9 @@
 """Streams: tuples (INTO, THROUGH, OUT) of fractions, for each place, tie, place."""
 
 from cutstairs.errors import NoStream
-from cutstairs.fractions import below, fraction, is_fraction, is_row, plus, total
-from cutstairs.roads import fill, reached
+from cutstairs.fractions import below, is_fraction, is_row, plus, total
+from cutstairs.roads import DRAIN, SPRING, greatest, reached
 from cutstairs.webs import names_of, sizes_at
-
-# No place can be called so.
-SPRING = "<spring>"
-DRAIN = "<drain>"
 
 
 def fits(size, thing):
@@ -60,32 +56,13 @@ def ends_of(web):
     ]
 
 
-def rooms_of(web, ends, holds):
-    """For each node how much it has room for to each other one that a tie leads to."""
-    names = names_of(web)
-    rooms = {node: {} for node in (SPRING, *names, DRAIN)}
-    for part, sizes in zip(ends, holds):
-        for (one, other), size in zip(part, sizes):
-            rooms[one][other] = size
-    return rooms
-
-
-def led_by(rooms, part, sizes, scale):
-    """What goes by each tie of a part, as fractions."""
-    # Where a tie the other way has something there is more room than size, and nothing goes here.
-    return tuple(fraction(max(0, size - rooms[one][other]), scale) for (one, other), size in zip(part, sizes))
-
-
 def stream_at(web, price):
     """A greatest stream at the price."""
     sizes = sizes_at(web, price)
     # Times the price's bottom all sizes are whole.
     scale = price[1]
     holds = [[size[0] * (scale // size[1]) for size in part] for part in sizes]
-    ends = ends_of(web)
-    rooms = rooms_of(web, ends, holds)
-    fill(rooms, SPRING, DRAIN)
-    return tuple(led_by(rooms, part, whole, scale) for part, whole in zip(ends, holds))
+    return greatest(ends_of(web), holds, scale)
 
 
 def ways_on(ends, sizes, parts):

@@ -102,10 +102,45 @@ FULL = (9, tuple((name, 99, 99, 999, 99) for name in NAMES),
 KEPT = (PLAIN, LONE, EVEN, RING, CHAIN, TRAP, FULL)
 
 
+def eight(numbers):
+    """Eight places, a to h, with these A, B, C, D each."""
+    return tuple((name, *row) for name, row in zip("abcdefgh", numbers))
+
+
+def tied(ends, size):
+    """Ties of one size between such ends, written as texts of two names."""
+    return tuple(sorted((one, other, size) for one, other in ends))
+
+
+ROW_OF_EIGHT = ("ab", "bc", "cd", "de", "ef", "fg", "gh")
+# One place after another comes over: as many bits as there can be.
+NINE_BITS = (9, eight((0, 1, at, 0) for at in range(1, 9)), ())
+NINE_BITS_SMALL = (1, eight((0, 9, at, 1) for at in range(1, 9)), ())
+# Nothing holds anything: all cuts that no tie leaves are least, whatever the price.
+LOOSE = (2, eight([(0, 0, 0, 0)] * 8), ())
+LOOSE_ROW = (2, eight([(0, 0, 0, 0)] * 8), tied(ROW_OF_EIGHT, 1))
+LOOSE_RING = (2, eight([(0, 0, 0, 0)] * 8), tied((*ROW_OF_EIGHT, "ha"), 2))
+# At 1 as much comes as goes at each place.
+EVEN_ROW = (2, eight([(0, 1, 1, 0)] * 8), tied(ROW_OF_EIGHT, 1))
+EVEN_RING = (2, eight([(0, 1, 1, 0)] * 8), tied((*ROW_OF_EIGHT, "ha"), 1))
+EVEN_PAIRS = (2, eight([(0, 1, 1, 0)] * 8), tied(("ab", "ba", "cd", "dc", "ef", "fe", "ac", "cg"), 2))
+# Always, never and at the same break, out of the order of their names.
+MIXED = (4, (("a", 0, 0, 5, 0), ("b", 0, 2, 4, 0), ("c", 9, 1, 3, 0), ("d", 0, 1, 2, 0), ("e", 0, 3, 3, 0),
+             ("f", 1, 0, 0, 0), ("g", 0, 1, 9, 1)), ())
+
+STAIRED = (NINE_BITS, NINE_BITS_SMALL, LOOSE, LOOSE_ROW, LOOSE_RING, EVEN_ROW, EVEN_RING, EVEN_PAIRS, MIXED)
+
+
 def thrown_webs(seed, many):
     """So many webs, small numbers (where cuts are often alike) and great ones in turn."""
     dice = Dice(seed)
     return [thrown_web(dice, (1, 3, 20, 999)[at % 4]) for at in range(many)]
+
+
+def small_webs(seed, many):
+    """So many webs with numbers up to 2, whose cuts are often alike."""
+    dice = Dice(seed)
+    return [thrown_web(dice, 2) for _ in range(many)]
 
 
 def prices_of(web):
@@ -155,3 +190,55 @@ def plain_least(web, price):
     least = min(worths)[0]
     best = [set(cut) for worth, cut in worths if worth == least]
     return least, tuple(sorted(set.intersection(*best))), tuple(sorted(set.union(*best)))
+
+
+def plain_lines(web):
+    """The line (BASE, LEAN) of each cut, by its worths at 0 and 1."""
+    lines = {}
+    for cut in plain_cuts(web):
+        base = plain_worth(web, cut, (0, 1))
+        lines[cut] = (int(base), int(plain_worth(web, cut, (1, 1)) - base))
+    return lines
+
+
+def least_by(lines, price):
+    """All cuts that have the least worth at a price, rising, by their lines."""
+    top, bottom = price
+    worths = {cut: base * bottom + lean * top for cut, (base, lean) in lines.items()}
+    least = min(worths.values())
+    return sorted(cut for cut in worths if worths[cut] == least)
+
+
+def bends_between(lines, one, other):
+    """The lines that are least, one after another, from one to the other, by looking where the outer ones cross."""
+    if one == other:
+        return [one]
+    at = Fraction(other[0] - one[0], one[1] - other[1])
+    middle = min(lines, key=lambda line: (line[0] + line[1] * at, line[1]))
+    if middle[0] + middle[1] * at == one[0] + one[1] * at:
+        return [one, other]
+    return bends_between(lines, one, middle)[:-1] + bends_between(lines, middle, other)
+
+
+def plain_stair(web):
+    """The stair, by the lines of all cuts, from the outside inwards."""
+    cuts = plain_lines(web)
+    lines = set(cuts.values())
+    first = min(lines)
+    last = min(lines, key=lambda line: (line[0] + line[1] * web[0], -line[1]))
+    row = bends_between(lines, first, last)
+    breaks = [as_told(Fraction(other[0] - one[0], one[1] - other[1])) for one, other in zip(row, row[1:])]
+    bits = []
+    for line in row:
+        have = [set(cut) for cut in cuts if cuts[cut] == line]
+        bits.append((tuple(sorted(set.intersection(*have))), tuple(sorted(set.union(*have))), *line))
+    return bits, breaks
+
+
+def stair_prices(web):
+    """0, TOP, the breaks, prices just beside them (nearer than any two breaks are) and half-way between."""
+    ends = [Fraction(0), *[as_number(at) for at in plain_stair(web)[1]], Fraction(web[0])]
+    near = Fraction(1, 10 ** 9)
+    beside = [at + near for at in ends[:-1]] + [at - near for at in ends[1:]]
+    halves = [(one + other) / 2 for one, other in zip(ends, ends[1:])]
+    return [as_told(at) for at in sorted(ends + beside + halves)]

@@ -17,6 +17,14 @@ INTERFACE = {
     "cuts": ("is_cut", "line_of", "worth_of", "all_cuts"),
     "streams": ("is_stream", "stream_at", "stream_worth", "led_to", "led_from"),
     "least": ("least_worth", "least_cut", "most_cut"),
+    "shapes": ("shape_at", "many_cuts", "cuts_at"),
+    "stairs": ("stair_of", "worth_by", "bits_at"),
+    "coming": ("comes_over", "coming_order", "all_goes"),
+    "risers": ("Riser",),
+}
+
+CLASS_METHODS = {
+    "Riser": ("rise", "price", "worth", "cut", "stream"),
 }
 
 BUILTINS = set("""len range enumerate zip min max sum abs sorted reversed int str bool list tuple dict set isinstance
@@ -51,6 +59,14 @@ def bound_names(tree):
             yield node.arg
         elif isinstance(node, (ast.FunctionDef, ast.ClassDef)):
             yield node.name
+
+
+def classes():
+    return [node for path, tree in trees() for node in tree.body if isinstance(node, ast.ClassDef)]
+
+
+def methods_of(node):
+    return [part.name for part in node.body if isinstance(part, ast.FunctionDef)]
 
 
 def imports_of(tree):
@@ -89,6 +105,12 @@ class TestModules(unittest.TestCase):
             told = [node.name for node in tree.body if isinstance(node, (ast.FunctionDef, ast.ClassDef))]
             for name in names:
                 self.assertIn(name, told)
+
+    def test_listed_methods_stand_in_the_class_itself(self):
+        told = {node.name: methods_of(node) for node in classes()}
+        for name, methods in CLASS_METHODS.items():
+            for method in methods:
+                self.assertIn(method, told[name])
 
     def test_module_level(self):
         for path, tree in trees():
@@ -129,6 +151,13 @@ class TestNames(unittest.TestCase):
                 self.assertRegex(name, r"^[A-Za-z][A-Za-z0-9_]*$")
                 self.assertFalse(hasattr(builtins, name), (path.name, name))
                 self.assertNotIn(name, imported, path.name)
+
+    def test_no_method_is_an_attribute_elsewhere(self):
+        methods = {method for node in classes() for method in methods_of(node)}
+        for path, tree in trees():
+            for node in ast.walk(tree):
+                if isinstance(node, ast.Attribute) and isinstance(node.ctx, ast.Store):
+                    self.assertNotIn(node.attr, methods, (path.name, node.lineno))
 
     def test_builtins_and_methods_in_use(self):
         for path, tree in trees():
