@@ -21,6 +21,9 @@ INTERFACE = {
     "stairs": ("stair_of", "worth_by", "bits_at"),
     "coming": ("comes_over", "coming_order", "all_goes"),
     "risers": ("Riser",),
+    "sharing": ("shares_of", "levels_of"),
+    "graphs": ("is_graph", "within"),
+    "dense": ("densest", "thickest", "density_leans", "thickness_leans"),
 }
 
 CLASS_METHODS = {
