@@ -1,10 +1,9 @@
 """When each place comes over to the spring's side, and until when all goes."""
 
 from cutstairs.cuts import line_of
-from cutstairs.errors import NoName
 from cutstairs.fractions import fraction
 from cutstairs.stairs import stair_of
-from cutstairs.webs import names_of
+from cutstairs.webs import check_name, names_of
 
 
 def bits_without(bits, name):
@@ -23,8 +22,7 @@ def when_behind(breaks, many):
 
 def comes_over(web, name):
     """When a place comes over: ("always",), ("at", BREAK) or ("never",)."""
-    if not (isinstance(name, str) and name in names_of(web)):
-        raise NoName("no name of a place")
+    check_name(web, name)
     bits, breaks = stair_of(web)
     return when_behind(breaks, bits_without(bits, name))
 

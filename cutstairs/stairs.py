@@ -17,7 +17,7 @@ def cuts_by_line(web):
 
 
 def meeting(line, other):
-    """The price at which a line is met by another one of lesser LEAN."""
+    """The price at which a line is met by another one of unlike LEAN."""
     return fraction(other[0] - line[0], line[1] - other[1])
 
 
@@ -69,12 +69,23 @@ def bits_beside(breaks, price):
     return [number]
 
 
+def line_on(stair, price):
+    """The line that has the least worth at a price, and just behind it where that is no more than TOP."""
+    bits, breaks = stair
+    cut, most, base, lean = bits[bits_beside(breaks, price)[-1]]
+    return (base, lean)
+
+
+def worth_on(stair, price):
+    """The least worth at a price, by a stair."""
+    base, lean = line_on(stair, price)
+    return on_line(base, lean, price)
+
+
 def worth_by(web, price):
     """The least worth at a price, told by the stair."""
     check_price(web, price)
-    bits, breaks = stair_of(web)
-    cut, most, base, lean = bits[bits_beside(breaks, price)[0]]
-    return on_line(base, lean, price)
+    return worth_on(stair_of(web), price)
 
 
 def bits_at(web, price):

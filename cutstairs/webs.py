@@ -1,6 +1,6 @@
-"""Webs: tuples (TOP, PLACES, TIES), their prices, and what their ties hold."""
+"""Webs: tuples (TOP, PLACES, TIES), their prices, and what their ties hold; and the webs of houses."""
 
-from cutstairs.errors import NoPrice
+from cutstairs.errors import NoName, NoPrice
 from cutstairs.fractions import fraction, is_between, is_fraction, is_row, on_line
 
 LETTERS = "abcdefghijklmnopqrstuvwxyz"
@@ -70,6 +70,12 @@ def names_of(web):
     return tuple(place[0] for place in web[1])
 
 
+def check_name(web, thing):
+    """Refuse what is no name of a place of the web."""
+    if not (isinstance(thing, str) and thing in names_of(web)):
+        raise NoName("no name of a place")
+
+
 def is_price(web, thing):
     """Whether a thing of any kind is a price of the web."""
     return is_fraction(thing) and 0 <= thing[0] <= web[0] * thing[1]
@@ -88,3 +94,43 @@ def sizes_at(web, price):
     through = tuple(fraction(size, 1) for one, other, size in web[2])
     out = tuple(on_line(c, -d, price) for name, a, b, c, d in web[1])
     return (into, through, out)
+
+
+def is_job(thing):
+    """Whether a thing of any kind is (NAME, GAIN, GROWS, WANTS), whatever GAIN and GROWS are."""
+    if not (is_row(thing, 4) and is_name(thing[0]) and isinstance(thing[3], tuple)):
+        return False
+    return all(is_name(want) for want in thing[3]) and is_rising(thing[3])
+
+
+def is_tool(thing):
+    """Whether a thing of any kind is (NAME, COST, FALLS), whatever COST and FALLS are."""
+    return is_row(thing, 3) and is_name(thing[0])
+
+
+def are_jobs_and_tools(jobs, tools):
+    """Whether two tuples are jobs and tools, names rising in both, and the jobs want these tools alone."""
+    if not (all(is_job(job) for job in jobs) and all(is_tool(tool) for tool in tools)):
+        return False
+    names = [tool[0] for tool in tools]
+    if not (is_rising([job[0] for job in jobs]) and is_rising(names)):
+        return False
+    return all(want in names for job in jobs for want in job[3])
+
+
+def house_web(house):
+    """The web of a house, whose cuts have the jobs that are done and the tools that are bought."""
+    top, jobs, tools = house
+    places = [(name, gain, grows, 0, 0) for name, gain, grows, wants in jobs]
+    places += [(name, 0, 0, cost, falls) for name, cost, falls in tools]
+    # No job earns as much as 999, so no least cut has a job without what it wants.
+    ties = [(name, want, 999) for name, gain, grows, wants in jobs for want in wants]
+    return (top, tuple(sorted(places, key=lambda place: place[0])), tuple(sorted(ties)))
+
+
+def has_house_form(thing):
+    """Whether a thing of any kind is a house."""
+    if not (is_row(thing, 3) and isinstance(thing[1], tuple) and isinstance(thing[2], tuple)):
+        return False
+    # Its web has the house's bounds: how many places and ties, and how great all numbers.
+    return are_jobs_and_tools(thing[1], thing[2]) and is_web(house_web(thing))

@@ -47,6 +47,16 @@ def odd_things():
     ]
 
 
+def odd_but_numbers():
+    """The odd things without the whole numbers among them."""
+    return [thing for thing in odd_things() if isinstance(thing, bool) or not isinstance(thing, int)]
+
+
+def odd_but_texts():
+    """The odd things without the texts among them."""
+    return [thing for thing in odd_things() if not isinstance(thing, str)]
+
+
 class Dice:
     """Numbers that look thrown but are the same in each run."""
 

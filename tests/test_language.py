@@ -24,18 +24,24 @@ INTERFACE = {
     "sharing": ("shares_of", "levels_of"),
     "graphs": ("is_graph", "within"),
     "dense": ("densest", "thickest", "density_leans", "thickness_leans"),
+    "beside": ("beside",),
+    "keepers": ("Keeper",),
+    "houses": ("is_house", "best_jobs", "jobs_stair"),
+    "pictures": ("is_picture", "tones_of"),
 }
 
 CLASS_METHODS = {
     "Riser": ("rise", "price", "worth", "cut", "stream"),
+    "Keeper": ("put", "take", "tie", "untie", "set_top", "undo", "web", "stair"),
 }
 
 BUILTINS = set("""len range enumerate zip min max sum abs sorted reversed int str bool list tuple dict set isinstance
     ord repr any all divmod ValueError KeyError super""".split())
 
+# The methods of builtin values, and own ones that the package itself calls.
 METHODS = set("""append clear copy count endswith extend find get index insert isalnum isalpha isdigit islower isspace
     isupper items join keys ljust lower lstrip partition pop remove replace reverse rfind rjust rpartition rsplit rstrip
-    setdefault split splitlines startswith strip update upper values zfill bit_length __init__""".split())
+    setdefault split splitlines startswith strip update upper values zfill bit_length __init__ change web""".split())
 
 BARRED = re.compile(r"\b(type|typing|typing_extensions|enum|Enum|IntEnum|StrEnum|Flag|IntFlag|Generic|Protocol|ABC|"
                     r"ABCMeta|namedtuple|NamedTuple|TypedDict|TYPE_CHECKING|abstractmethod)\b"
