@@ -1,7 +1,7 @@
 """Two webs beside each other: where the one's least worth is less than the other's, the same, or more."""
 
 from cutstairs.errors import NoTop
-from cutstairs.fractions import below, fraction, plus, times
+from cutstairs.fractions import below, fraction, half_way
 from cutstairs.stairs import line_on, meeting, stair_of, worth_on
 
 
@@ -50,7 +50,6 @@ def beside(web, other):
     while below(start, top):
         end = end_behind(stairs, start, top)
         # Strictly between start and end the word doesn't change, so any price there tells it.
-        half = times(plus(start, end), fraction(1, 2))
-        stretches.append((start, end, word_at(stairs, half)))
+        stretches.append((start, end, word_at(stairs, half_way(start, end))))
         start = end
     return joined(stairs, stretches)

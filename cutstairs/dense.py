@@ -1,10 +1,10 @@
 """The densest and the thickest part of a graph, and leans by which no part is more so."""
 
-from cutstairs.cuts import choices_of
+from cutstairs.cuts import DRAIN, SPRING, choices_of
 from cutstairs.errors import NoPart
 from cutstairs.fractions import below, fraction
 from cutstairs.graphs import within
-from cutstairs.roads import DRAIN, SPRING, greatest
+from cutstairs.roads import greatest
 
 
 def best_part(graph, less):

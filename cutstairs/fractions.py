@@ -63,6 +63,11 @@ def over(a, b):
     return fraction(a[0] * b[1], a[1] * b[0])
 
 
+def half_way(a, b):
+    """What lies just half-way from a to b."""
+    return times(plus(a, b), fraction(1, 2))
+
+
 def below(a, b):
     """Whether a is less than b."""
     return a[0] * b[1] < b[0] * a[1]

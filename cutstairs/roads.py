@@ -1,28 +1,7 @@
 """Greatest streams from a spring to a drain, by roads from node to node that let as much as they can."""
 
+from cutstairs.cuts import DRAIN, SPRING, reached
 from cutstairs.fractions import fraction
-
-# No place can be called so.
-SPRING = "<spring>"
-DRAIN = "<drain>"
-
-
-def reached(steps, start):
-    """For each node that is reached from the start the one ahead, on a road of fewest steps.
-
-    steps has for each node a list of those to which a step goes; the start stands ahead of itself.
-    """
-    ahead = {start: start}
-    wave = [start]
-    while wave:
-        following = []
-        for one in wave:
-            for other in steps[one]:
-                if other not in ahead:
-                    ahead[other] = one
-                    following.append(other)
-        wave = following
-    return ahead
 
 
 def road_with_room(rooms, start, end):

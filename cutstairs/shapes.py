@@ -1,8 +1,8 @@
 """The shape of all least cuts at a price: which places go together, and which draw others along."""
 
-from cutstairs.cuts import choices_of
-from cutstairs.streams import led_from, led_to, places_reached, stream_at, ways_between
-from cutstairs.webs import names_of, sizes_at
+from cutstairs.cuts import choices_of, places_reached, places_without, ways_between
+from cutstairs.streams import led_from, led_to, stream_at
+from cutstairs.webs import sizes_at
 
 
 def blocks_of(free, draws):
@@ -30,8 +30,7 @@ def shape_at(web, price):
     """The shape (LOW, BLOCKS, ARROWS) of all least cuts at a price."""
     stream = stream_at(web, price)
     low = led_to(web, price, stream)
-    outside = led_from(web, price, stream)
-    free = [name for name in names_of(web) if name not in low and name not in outside]
+    free = places_without(web, low + led_from(web, price, stream))
     # No least cut has a place but lacks one to which more can be led from it.
     ways = ways_between(web, sizes_at(web, price), stream)
     draws = {name: places_reached(web, name, ways) for name in free}

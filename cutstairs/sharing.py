@@ -3,11 +3,12 @@
 from cutstairs.coming import coming_order
 from cutstairs.errors import NoShare
 from cutstairs.fractions import fraction, times
+from cutstairs.webs import does_share
 
 
 def check_shares(web):
     """Refuse a web that doesn't share."""
-    if not all(a == 0 and b >= 1 and d == 0 for name, a, b, c, d in web[1]):
+    if not does_share(web):
         raise NoShare("some A or D isn't 0, or some B is 0")
 
 

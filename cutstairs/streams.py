@@ -1,38 +1,15 @@
 """Streams: tuples (INTO, THROUGH, OUT) of fractions, for each place, tie, place."""
 
+from cutstairs.cuts import ends_of, places_led_from, places_led_to
 from cutstairs.errors import NoStream
-from cutstairs.fractions import below, is_fraction, is_row, plus, total
-from cutstairs.roads import DRAIN, SPRING, greatest, reached
-from cutstairs.webs import names_of, sizes_at
-
-
-def fits(size, thing):
-    """Whether a thing of any kind is a fraction from 0 on and no more than the size."""
-    return is_fraction(thing) and thing[0] >= 0 and not below(size, thing)
-
-
-def all_fit(sizes, thing):
-    """Whether a thing of any kind is a tuple of one fraction for each size, none more than it."""
-    return is_row(thing, len(sizes)) and all(fits(size, part) for size, part in zip(sizes, thing))
-
-
-def is_balanced(web, stream):
-    """Whether at each place as much comes as goes."""
-    into, through, out = stream
-    comes = dict(zip(names_of(web), into))
-    goes = dict(zip(names_of(web), out))
-    for tie, part in zip(web[2], through):
-        goes[tie[0]] = plus(goes[tie[0]], part)
-        comes[tie[1]] = plus(comes[tie[1]], part)
-    return comes == goes
+from cutstairs.fractions import common_divisor, total
+from cutstairs.roads import greatest
+from cutstairs.webs import can_be_led, sizes_at
 
 
 def is_stream(web, price, thing):
     """Whether a thing of any kind is a stream at the price."""
-    sizes = sizes_at(web, price)
-    if not is_row(thing, 3):
-        return False
-    return all(all_fit(held, part) for held, part in zip(sizes, thing)) and is_balanced(web, thing)
+    return can_be_led(web, price, thing)
 
 
 def check_stream(web, price, thing):
@@ -46,59 +23,29 @@ def stream_worth(stream):
     return total(stream[0])
 
 
-def ends_of(web):
-    """The two ends of all ties: lists for those from the spring, between places, to the drain."""
-    names = names_of(web)
-    return [
-        [(SPRING, name) for name in names],
-        [(one, other) for one, other, size in web[2]],
-        [(name, DRAIN) for name in names],
-    ]
+def stream_within(web, sizes):
+    """A greatest stream by ties that hold so much."""
+    # Times a common multiple of their bottoms all sizes are whole.
+    scale = 1
+    for part in sizes:
+        for top, bottom in part:
+            scale = scale // common_divisor(scale, bottom) * bottom
+    holds = [[top * (scale // bottom) for top, bottom in part] for part in sizes]
+    return greatest(ends_of(web), holds, scale)
 
 
 def stream_at(web, price):
     """A greatest stream at the price."""
-    sizes = sizes_at(web, price)
-    # Times the price's bottom all sizes are whole.
-    scale = price[1]
-    holds = [[size[0] * (scale // size[1]) for size in part] for part in sizes]
-    return greatest(ends_of(web), holds, scale)
-
-
-def ways_on(ends, sizes, parts):
-    """The ends of all ties that aren't full."""
-    return [end for end, size, part in zip(ends, sizes, parts) if below(part, size)]
-
-
-def ways_between(web, sizes, stream):
-    """All (ONE, OTHER) of places where more can be led from ONE to OTHER, on or back."""
-    ends = ends_of(web)[1]
-    back = [(other, one) for (one, other), part in zip(ends, stream[1]) if part[0] > 0]
-    return ways_on(ends, sizes[1], stream[1]) + back
-
-
-def places_reached(web, start, ways):
-    """The rising tuple of all places that are reached from the start."""
-    names = names_of(web)
-    steps = {node: [] for node in (start, *names)}
-    for one, other in ways:
-        steps[one].append(other)
-    ahead = reached(steps, start)
-    return tuple(name for name in names if name in ahead)
+    return stream_within(web, sizes_at(web, price))
 
 
 def led_to(web, price, stream):
     """All places to which more can be led from the spring."""
     check_stream(web, price, stream)
-    sizes = sizes_at(web, price)
-    first = ways_on(ends_of(web)[0], sizes[0], stream[0])
-    return places_reached(web, SPRING, first + ways_between(web, sizes, stream))
+    return places_led_to(web, sizes_at(web, price), stream)
 
 
 def led_from(web, price, stream):
     """All places from which more can be led to the drain."""
     check_stream(web, price, stream)
-    sizes = sizes_at(web, price)
-    last = ways_on(ends_of(web)[2], sizes[2], stream[2])
-    turned = [(other, one) for one, other in last + ways_between(web, sizes, stream)]
-    return places_reached(web, DRAIN, turned)
+    return places_led_from(web, sizes_at(web, price), stream)

@@ -1,7 +1,10 @@
-"""Webs: tuples (TOP, PLACES, TIES), their prices, and what their ties hold; and the webs of houses."""
+"""Webs: tuples (TOP, PLACES, TIES), their prices, what their ties hold, and what can be led by them.
+
+The forms of graphs and houses stand here, too: the checker, which imports the first two stages alone, asks for them.
+"""
 
 from cutstairs.errors import NoName, NoPrice
-from cutstairs.fractions import fraction, is_between, is_fraction, is_row, on_line
+from cutstairs.fractions import below, fraction, is_between, is_fraction, is_row, on_line, plus
 
 LETTERS = "abcdefghijklmnopqrstuvwxyz"
 
@@ -14,6 +17,11 @@ def is_name(thing):
 def is_rising(row):
     """Whether each of the row is more than the one ahead."""
     return all(ahead < behind for ahead, behind in zip(row, row[1:]))
+
+
+def are_names(thing):
+    """Whether a thing of any kind is a rising tuple of names."""
+    return isinstance(thing, tuple) and all(is_name(name) for name in thing) and is_rising(thing)
 
 
 def is_top(thing):
@@ -76,6 +84,11 @@ def check_name(web, thing):
         raise NoName("no name of a place")
 
 
+def does_share(web):
+    """Whether the web shares."""
+    return all(a == 0 and b >= 1 and d == 0 for name, a, b, c, d in web[1])
+
+
 def is_price(web, thing):
     """Whether a thing of any kind is a price of the web."""
     return is_fraction(thing) and 0 <= thing[0] <= web[0] * thing[1]
@@ -96,11 +109,53 @@ def sizes_at(web, price):
     return (into, through, out)
 
 
+def fits(size, thing):
+    """Whether a thing of any kind is a fraction from 0 on and no more than the size."""
+    return is_fraction(thing) and thing[0] >= 0 and not below(size, thing)
+
+
+def all_fit(sizes, thing):
+    """Whether a thing of any kind is a tuple of one fraction for each size, none more than it."""
+    return is_row(thing, len(sizes)) and all(fits(size, part) for size, part in zip(sizes, thing))
+
+
+def is_balanced(web, stream):
+    """Whether at each place as much comes as goes."""
+    into, through, out = stream
+    comes = dict(zip(names_of(web), into))
+    goes = dict(zip(names_of(web), out))
+    for tie, part in zip(web[2], through):
+        goes[tie[0]] = plus(goes[tie[0]], part)
+        comes[tie[1]] = plus(comes[tie[1]], part)
+    return comes == goes
+
+
+def can_be_led(web, price, thing):
+    """Whether a thing of any kind is a stream at the price."""
+    sizes = sizes_at(web, price)
+    if not is_row(thing, 3):
+        return False
+    return all(all_fit(held, part) for held, part in zip(sizes, thing)) and is_balanced(web, thing)
+
+
+def is_pair(names, thing):
+    """Whether a thing of any kind is a pair among these names."""
+    return is_row(thing, 2) and are_names(thing) and thing[0] in names and thing[1] in names
+
+
+def has_graph_form(thing):
+    """Whether a thing of any kind is a graph."""
+    if not is_row(thing, 2):
+        return False
+    names, pairs = thing
+    if not (are_names(names) and 1 <= len(names) <= 7 and isinstance(pairs, tuple) and len(pairs) <= 12):
+        return False
+    return all(is_pair(names, pair) for pair in pairs) and is_rising(pairs)
+
+
 def is_job(thing):
     """Whether a thing of any kind is (NAME, GAIN, GROWS, WANTS), whatever GAIN and GROWS are."""
-    if not (is_row(thing, 4) and is_name(thing[0]) and isinstance(thing[3], tuple)):
-        return False
-    return all(is_name(want) for want in thing[3]) and is_rising(thing[3])
+    return is_row(thing, 4) and is_name(thing[0]) and are_names(thing[3])
 
 
 def is_tool(thing):

@@ -4,6 +4,8 @@ from cutstairs.errors import NoText
 from cutstairs.webs import is_top, is_web
 
 FIGURES = "0123456789"
+# No number of a web has more, so a longer one needn't be reckoned.
+MOST_FIGURES = 3
 
 
 def show_web(web):
@@ -15,19 +17,18 @@ def show_web(web):
     return "\n".join(rows)
 
 
-def read_number(word):
-    """The whole number that a word writes, or None where it writes none."""
-    # No number of a web has more than three figures, so a longer one needn't be reckoned.
-    if not 1 <= len(word) <= 3 or not all(sign in FIGURES for sign in word):
+def read_number(word, most):
+    """The whole number that a word writes in so many figures at most, or None where it writes none."""
+    if not 1 <= len(word) <= most or not all(sign in FIGURES for sign in word):
         return None
     if word[0] == "0" and word != "0":
         return None
     return int(word)
 
 
-def read_two(word, sign):
-    """The two numbers of a word with this sign between them, or None."""
-    numbers = [read_number(part) for part in word.split(sign)]
+def read_two(word, sign, most):
+    """The two numbers, in so many figures at most, of a word with this sign between them, or None."""
+    numbers = [read_number(part, most) for part in word.split(sign)]
     if len(numbers) != 2 or None in numbers:
         return None
     return numbers
@@ -38,7 +39,7 @@ def read_top(row):
     words = row.split(" ")
     if len(words) != 2 or words[0] != "top":
         return None
-    return read_number(words[1])
+    return read_number(words[1], MOST_FIGURES)
 
 
 def read_place(row):
@@ -46,8 +47,8 @@ def read_place(row):
     words = row.split(" ")
     if len(words) != 3:
         return None
-    into = read_two(words[1], "+")
-    out = read_two(words[2], "-")
+    into = read_two(words[1], "+", MOST_FIGURES)
+    out = read_two(words[2], "-", MOST_FIGURES)
     if into is None or out is None:
         return None
     return (words[0], *into, *out)
@@ -58,7 +59,7 @@ def read_tie(row):
     words = row.split(" ")
     if len(words) != 4 or words[1] != ">":
         return None
-    size = read_number(words[3])
+    size = read_number(words[3], MOST_FIGURES)
     if size is None:
         return None
     return (words[0], words[2], size)

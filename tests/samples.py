@@ -153,6 +153,11 @@ def small_webs(seed, many):
     return [thrown_web(dice, 2) for _ in range(many)]
 
 
+def sharing(web):
+    """The web made one that shares."""
+    return (web[0], tuple((name, 0, max(1, b), c, 0) for name, a, b, c, d in web[1]), web[2])
+
+
 def prices_of(web):
     """Some prices of a web: both ends, and some between."""
     top = web[0]

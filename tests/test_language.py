@@ -28,11 +28,17 @@ INTERFACE = {
     "keepers": ("Keeper",),
     "houses": ("is_house", "best_jobs", "jobs_stair"),
     "pictures": ("is_picture", "tones_of"),
+    "checker": ("holds",),
+    "papers": ("paper_worth", "paper_least", "paper_most", "paper_cuts", "paper_stair", "paper_goes", "paper_shares",
+               "paper_densest", "paper_thickest", "paper_earns"),
+    "deskwords": (),
+    "desk": ("Desk",),
 }
 
 CLASS_METHODS = {
     "Riser": ("rise", "price", "worth", "cut", "stream"),
     "Keeper": ("put", "take", "tie", "untie", "set_top", "undo", "web", "stair"),
+    "Desk": ("say",),
 }
 
 BUILTINS = set("""len range enumerate zip min max sum abs sorted reversed int str bool list tuple dict set isinstance
@@ -41,7 +47,8 @@ BUILTINS = set("""len range enumerate zip min max sum abs sorted reversed int st
 # The methods of builtin values, and own ones that the package itself calls.
 METHODS = set("""append clear copy count endswith extend find get index insert isalnum isalpha isdigit islower isspace
     isupper items join keys ljust lower lstrip partition pop remove replace reverse rfind rjust rpartition rsplit rstrip
-    setdefault split splitlines startswith strip update upper values zfill bit_length __init__ change web""".split())
+    setdefault split splitlines startswith strip update upper values zfill bit_length __init__ change put take tie untie set_top
+    undo web""".split())
 
 BARRED = re.compile(r"\b(type|typing|typing_extensions|enum|Enum|IntEnum|StrEnum|Flag|IntFlag|Generic|Protocol|ABC|"
                     r"ABCMeta|namedtuple|NamedTuple|TypedDict|TYPE_CHECKING|abstractmethod)\b"
