@@ -431,6 +431,22 @@ class TestTruth(unittest.TestCase):
             other = (*claim[:3], as_told(as_number(claim[3]) + more))
             self.assertIs(holds(other, (done, stream)), more == 0)
 
+    def test_other_cuts_of_the_same_line_in_a_stair(self):
+        unlike = 0
+        for web in (LONE, EVEN, *WEBS):
+            claim, paper = paper_stair(web)
+            bits = claim[2]
+            lines = plain_lines(web)
+            for at, bit in enumerate(bits):
+                alike = [cut for cut in lines if lines[cut] == bit[2:]]
+                unlike += len(alike) > 1
+                for field in (0, 1):
+                    for cut in alike:
+                        other = (*bit[:field], cut, *bit[field + 1:])
+                        put = (*claim[:2], (*bits[:at], other, *bits[at + 1:]), claim[3])
+                        self.assertIs(holds(put, paper), cut == bit[field])
+        self.assertGreater(unlike, 10)
+
     def test_shares_that_are_not_level(self):
         # Half of the level shares goes, too, by half of the stream.
         for web in WEBS:
